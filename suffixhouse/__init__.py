@@ -1,0 +1,1 @@
+"""Suffixhouse: an index of all stretches of many texts."""

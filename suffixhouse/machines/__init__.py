@@ -1,0 +1,1 @@
+"""Machines that take the ends of a house."""

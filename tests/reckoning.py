@@ -1,0 +1,113 @@
+"""Houses to test with, and a plain reckoning of their machines (points 203 to 206)."""
+
+from itertools import product
+from random import Random
+
+
+def words_of(letters, most):
+    """Return all words of at most so many of the letters."""
+    return ["".join(word) for size in range(most + 1) for word in product(letters, repeat=size)]
+
+
+def small_houses():
+    """Yield many small houses: one, two or three texts, with all kinds of numbers."""
+    for text in words_of("ab", 7) + words_of("cba", 4):
+        yield [(3, text)]
+    for one, two in product(words_of("ab", 3), repeat=2):
+        yield [(0, one), (99, two)]
+    for texts in product(words_of("ab", 2), repeat=3):
+        yield list(zip((7, 10, 11), texts))
+
+
+def mixed_houses():
+    """Yield houses of up to 8 texts, with few and with many letters, always the same ones."""
+    chance = Random(20261119)
+    for case in range(300):
+        letters = ("ab", "abc", "a1:\\ ~", "0123456789")[case % 4]
+        numbers = sorted(chance.sample(range(100), chance.randint(1, 8)))
+        yield [
+            (number, "".join(chance.choices(letters, k=chance.randint(0, 9))))
+            for number in numbers
+        ]
+
+
+def large_houses():
+    """Yield houses of 8 texts of 40 letters."""
+    chance = Random(8 * 40)
+    every = "".join(chr(code) for code in range(32, 127) if code != 37)
+    yield [(number, "a" * 40) for number in range(8)]
+    yield [(number, "ab" * 20) for number in range(92, 100)]
+    yield [(number, "a" * number + "b" + "a" * (39 - number)) for number in range(8)]
+    yield [(number, every[number:number + 40]) for number in range(8)]
+    for letters in ("ab", "abc", every):
+        yield [(number * 12, "".join(chance.choices(letters, k=40))) for number in range(8)]
+
+
+def ends_of_words(house):
+    """Return for each inner word the list of the pairs where it ends, ascending."""
+    found = {}
+    for number, text in house:
+        for stop in range(len(text) + 1):
+            for start in range(stop + 1):
+                pairs = found.setdefault(text[start:stop], [])
+                if (number, stop) not in pairs:
+                    pairs.append((number, stop))
+    return found
+
+
+def plain_classes(house):
+    """Return the lists of words that are alike, in the order of point 205."""
+    classes = {}
+    for word, pairs in ends_of_words(house).items():
+        classes.setdefault(tuple(sorted(pairs)), []).append(word)
+    found = [sorted(words, key=len) for words in classes.values()]
+    return sorted(found, key=lambda words: (len(words[0]), words[0]))
+
+
+def plain_numbers(house):
+    """Return for each inner word the number of its state."""
+    return {word: at for at, words in enumerate(plain_classes(house)) for word in words}
+
+
+def plain_states(house):
+    """Return what `states` has to return for a house that is not empty."""
+    ends = ends_of_words(house)
+    numbers = plain_numbers(house)
+    found = []
+    for words in plain_classes(house):
+        shortest, longest = words[0], words[-1]
+        link = None if shortest == "" else numbers[shortest[1:]]
+        found.append((shortest, longest, sorted(ends[shortest]), link))
+    return found
+
+
+def plain_machine(house):
+    """Return what `machine` has to return for a house that is not empty."""
+    numbers = plain_numbers(house)
+    letters = sorted({letter for number, text in house for letter in text})
+    classes = plain_classes(house)
+    edges = [{} for words in classes] + [{}]
+    for word, state in numbers.items():
+        for letter in letters:
+            if word + letter in numbers:
+                edges[state][letter] = numbers[word + letter]
+        for number, text in house:
+            if text.endswith(word):
+                edges[state][number] = len(classes)
+    return edges
+
+
+def plain_ends(house):
+    """Return all ends of a house."""
+    return sorted((text[start:], number) for number, text in house for start in range(len(text) + 1))
+
+
+def rows_from(edges, state, last):
+    """Return all rows that lead from a state to the last state, as pairs."""
+    found = []
+    for sign, after in edges[state].items():
+        if isinstance(sign, int):
+            found += [("", sign)] if after == last else []
+        else:
+            found += [(sign + letters, mark) for letters, mark in rows_from(edges, after, last)]
+    return sorted(found)
