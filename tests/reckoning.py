@@ -111,3 +111,72 @@ def rows_from(edges, state, last):
         else:
             found += [(sign + letters, mark) for letters, mark in rows_from(edges, after, last)]
     return sorted(found)
+
+
+def plain_places(house, word):
+    """Return all places of a word, tried at every index there could be."""
+    return [
+        (number, start)
+        for number, text in house
+        for start in range(len(text) + 1)
+        if list(text[start:start + len(word)]) == list(word)
+    ]
+
+
+def plain_stretches(house):
+    """Return all stretches by their number of letters, and then as texts."""
+    words = [word for word in ends_of_words(house) if word != ""]
+    return sorted(words, key=lambda word: (len(word), word))
+
+
+def letters_of(house, end):
+    """Return the letters of an end that is given by its place."""
+    number, start = end
+    return dict(house)[number][start:]
+
+
+def plain_order(house):
+    """Return the order of a house: each end stands behind those that come before it."""
+    ends = [(number, start) for number, text in house for start in range(len(text) + 1)]
+    keys = {end: (letters_of(house, end), end[0]) for end in ends}
+    found = [None] * len(ends)
+    for end in ends:
+        found[sum(keys[other] < keys[end] for other in ends)] = end
+    return found
+
+
+def plain_common(house, one, two):
+    """Return the greatest number of letters with which both ends begin alike."""
+    one, two = letters_of(house, one), letters_of(house, two)
+    return max(size for size in range(len(one) + 1) if one[:size] == two[:size])
+
+
+def plain_commons(house):
+    """Return the commons of the order of a house."""
+    order = plain_order(house)
+    return [0 if at == 0 else plain_common(house, order[at - 1], order[at]) for at in range(len(order))]
+
+
+def plain_range(house, word):
+    """Return the range of a word, counted end by end."""
+    ends = sorted(letters for letters, _ in plain_ends(house))
+    beginning = [at for at, letters in enumerate(ends) if letters.startswith(word)]
+    if beginning:
+        return beginning[0], beginning[-1] + 1
+    before = sum(letters < word for letters in ends)
+    return before, before
+
+
+def words_near(house):
+    """Return words that stand in a house, and words with a letter more, less or exchanged."""
+    found = {"", "a", "~", "zz", "a" * 41, "ab" * 30}
+    for _, text in house:
+        for start, stop in [(0, len(text)), (0, 1), (1, len(text)), (0, len(text) - 1), (2, 5), (3, 9)]:
+            word = text[start:max(stop, start)]
+            middle = len(word) // 2
+            found |= {
+                word, word + word, word + "a", "a" + word, word + "~", " " + word, word[:-1], word[1:],
+                word[:middle] + word[middle + 1:], word[:middle] + "b" + word[middle + 1:],
+                word[:middle] + "~" + word[middle:], word[:-1] + " ", word[:-1] + "~", word + text[:1],
+            }
+    return sorted(word for word in found if len(word) <= 60)

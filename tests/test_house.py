@@ -7,6 +7,7 @@ from suffixhouse.errors import (
 from suffixhouse.texts.house import (
     is_house, read_house, text_of, with_text, without_text, write_house,
 )
+from raising import RaisingTest
 
 PERCENT = chr(37)
 EVERY_LETTER = [chr(code) for code in range(32, 127) if code != 37]
@@ -15,18 +16,7 @@ FULL = [(number, "abc"[:number % 4]) for number in range(0, 80, 10)]
 HOUSE = [(0, "zero"), (5, ""), (99, "a:b")]
 
 
-class HouseTest(unittest.TestCase):
-    def assert_raises(self, error, at, function, *arguments):
-        """The call raises just this error, and what is passed in stays as it is."""
-        before = deepcopy(arguments)
-        with self.assertRaises(error) as caught:
-            function(*arguments)
-        self.assertIs(type(caught.exception), error)
-        self.assertTrue(caught.exception.at == at)
-        self.assertEqual(arguments, before)
-
-
-class IsHouseTest(HouseTest):
+class IsHouseTest(RaisingTest):
     def test_houses(self):
         for house in [
             [], HOUSE, FULL, [(0, "")], [(99, "x" * 40)], [(0, "same"), (1, "same")],
@@ -68,7 +58,7 @@ class IsHouseTest(HouseTest):
                 self.assertIs(is_house([(0, "a"), (1, text), (2, "b")]), False, repr(text))
 
 
-class TextOfTest(HouseTest):
+class TextOfTest(RaisingTest):
     def test_texts(self):
         for number, text in HOUSE:
             self.assertEqual(text_of(HOUSE, number), text)
@@ -79,7 +69,7 @@ class TextOfTest(HouseTest):
         self.assert_raises(NoText, 0, text_of, [], 0)
 
 
-class WithTextTest(HouseTest):
+class WithTextTest(RaisingTest):
     def test_each_place(self):
         self.assertEqual(with_text([], 0, ""), [(0, "")])
         self.assertEqual(with_text([], 99, "z"), [(99, "z")])
@@ -132,7 +122,7 @@ class WithTextTest(HouseTest):
         self.assert_raises(BadText, 11, with_text, FULL, 11, "\n")
 
 
-class WithoutTextTest(HouseTest):
+class WithoutTextTest(RaisingTest):
     def test_each_place(self):
         self.assertEqual(without_text([(4, "a")], 4), [])
         for number, _ in FULL:
@@ -160,7 +150,7 @@ class WithoutTextTest(HouseTest):
             self.assertEqual(without_text(with_text(HOUSE, number, "new"), number), HOUSE)
 
 
-class WriteAndReadTest(HouseTest):
+class WriteAndReadTest(RaisingTest):
     def test_there_and_back(self):
         for house, text in [
             ([], ""),

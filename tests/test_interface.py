@@ -4,6 +4,10 @@ import inspect
 import unittest
 from pathlib import Path
 
+from suffixhouse.ends.order import check_order, commons_of, order_of
+from suffixhouse.ends.ranges import least_common, order_with
+from suffixhouse.houses.house import House
+
 README = Path(__file__).resolve().parent.parent / "README.md"
 FUNCTIONS = {
     "suffixhouse.texts.house": {
@@ -21,6 +25,44 @@ FUNCTIONS = {
         "takes": ["edges", "word", "mark"],
         "edge_count": ["edges"],
     },
+    "suffixhouse.texts.scans": {
+        "places": ["house", "word"],
+        "ends_at": ["house", "word"],
+        "count": ["house", "word"],
+        "stretches": ["house"],
+        "next_letters": ["house", "word"],
+        "next_marks": ["house", "word"],
+        "ends": ["house"],
+    },
+    "suffixhouse.ends.order": {
+        "order_of": ["house"],
+        "common": ["house", "one", "two"],
+        "commons_of": ["house", "order"],
+        "check_order": ["house", "order", "commons"],
+    },
+    "suffixhouse.ends.ranges": {
+        "range_of": ["house", "order", "word"],
+        "stretch_count": ["house", "order", "commons"],
+        "least_common": ["commons", "i", "j"],
+        "order_with": ["house", "order", "number", "text"],
+        "order_without": ["house", "order", "number"],
+    },
+    "suffixhouse.houses.house": {
+        "House": [],
+    },
+}
+METHODS = {
+    "put": ["number", "text"],
+    "take": ["number"],
+    "back": [],
+    "texts": [],
+    "machine": [],
+    "order": [],
+    "commons": [],
+    "history": [],
+    "places": ["word"],
+    "count": ["word"],
+    "copy": [],
 }
 
 
@@ -32,6 +74,20 @@ class InterfaceTest(unittest.TestCase):
                 function = getattr(module, name)
                 self.assertEqual(function.__module__, place, name)
                 self.assertEqual(list(inspect.signature(function).parameters), arguments, name)
+
+    def test_methods_are_defined_in_the_class_itself(self):
+        own = vars(House)
+        for name, arguments in METHODS.items():
+            self.assertIn(name, own)
+            self.assertEqual(list(inspect.signature(own[name]).parameters), ["self", *arguments], name)
+
+    def test_arguments_by_name(self):
+        house = [(1, "ab")]
+        order = order_of(house=house)
+        commons = commons_of(house=house, order=order)
+        self.assertIs(check_order(house=house, order=order, commons=commons), True)
+        self.assertEqual(least_common(commons=commons, i=0, j=2), 0)
+        self.assertEqual(order_with(house=house, order=order, number=2, text=""), [(1, 2), (2, 0), *order[1:]])
 
     def test_readme_tells_the_truth(self):
         result = doctest.testfile(str(README), module_relative=False)

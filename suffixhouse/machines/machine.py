@@ -39,6 +39,17 @@ class Growth:
             found[link] = found[link] + found[state]
         return [sorted(row) for row in found]
 
+    def marked_edges(self):
+        """Return the edges of each class and of the last state, with those of the marks."""
+        last = len(self.edges)
+        found = [dict(row) for row in self.edges]
+        found.append({})
+        for number, way in self.ways:
+            # These are the classes of all words with which the text ends.
+            for state in self.linked(way[-1]):
+                found[state][number] = last
+        return found
+
     def least_size(self, state):
         """Return the number of letters of the shortest word of a class."""
         link = self.links[state]
@@ -131,14 +142,18 @@ def machine(house):
     """Return the machine of a house: a dict of edges for each state."""
     if len(house) == 0:
         return [{}]
+    return Growth(house).marked_edges()
+
+
+def machine_and_pairs(house):
+    """Return the machine and, for each state but the last one, the pairs where its words end.
+
+    For an empty house the start has no pairs.
+    """
+    if len(house) == 0:
+        return [{}], [[]]
     growth = Growth(house)
-    edges = [*growth.edges, {}]
-    last = len(edges) - 1
-    for number, way in growth.ways:
-        # These are the classes of all words with which the text ends.
-        for state in growth.linked(way[-1]):
-            edges[state][number] = last
-    return edges
+    return growth.marked_edges(), growth.pairs()
 
 
 def states(house):

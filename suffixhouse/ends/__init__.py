@@ -1,0 +1,1 @@
+"""The ends of a house in order."""

@@ -1,0 +1,1 @@
+"""Houses that change."""
