@@ -180,3 +180,71 @@ def words_near(house):
                 word[:middle] + "~" + word[middle:], word[:-1] + " ", word[:-1] + "~", word + text[:1],
             }
     return sorted(word for word in found if len(word) <= 60)
+
+
+def few_houses():
+    """Yield houses of all kinds, not too many."""
+    yield from [
+        [], [(4, "")], [(4, ""), (6, "")], [(4, ""), (6, "x")], [(2, "aba"), (5, "b")],
+        [(1, "aa"), (2, "aa")], [(0, "xyx"), (4, ""), (9, "xyx")],
+        [(number, "ab") for number in range(8)], [(number, "") for number in range(92, 100)],
+    ]
+    yield from list(small_houses())[::7]
+    yield from list(mixed_houses())[::5]
+
+
+def places_of_words(house):
+    """Return for each stretch the list of its places, ascending."""
+    found = {}
+    for number, text in house:
+        for start in range(len(text)):
+            for stop in range(start + 1, len(text) + 1):
+                found.setdefault(text[start:stop], []).append((number, start))
+    return found
+
+
+def plain_repeated(house, least):
+    """Return the longest repeated stretch, or None."""
+    words = [word for word, places in places_of_words(house).items() if len(places) >= least]
+    return min(words, key=lambda word: (-len(word), word), default=None)
+
+
+def plain_shared(house, least):
+    """Return the longest shared stretch, or None."""
+    words = {word for _, text in house for word in places_of_words([(0, text)])}
+    words = [word for word in words if sum(word in text for _, text in house) >= least]
+    return min(words, key=lambda word: (-len(word), word), default=None)
+
+
+def plain_single(house, number, index):
+    """Return the shortest single stretch over a letter, or None."""
+    places = places_of_words(house)
+    text = dict(house)[number]
+    single = [
+        (stop - start, start, stop)
+        for start in range(len(text))
+        for stop in range(start + 1, len(text) + 1)
+        if start <= index < stop and places[text[start:stop]] == [(number, start)]
+    ]
+    return min(single)[1:] if single else None
+
+
+def plain_asked(text, index, found):
+    """Return the stretches for which a check of a shortest single stretch asks a place."""
+    if found is None:
+        return [(0, len(text))]
+    size = found[1] - found[0] - 1
+    return [
+        (start, start + size) for start in range(len(text))
+        if size > 0 and start <= index < start + size <= len(text)
+    ]
+
+
+def plain_others(house, number, index):
+    """Return the least other places of the stretches that stand at other places, too."""
+    places = places_of_words(house)
+    text = dict(house)[number]
+    return {
+        (start, stop): min(place for place in places[text[start:stop]] if place != (number, start))
+        for start, stop in plain_asked(text, index, plain_single(house, number, index))
+    }

@@ -4,6 +4,7 @@ import inspect
 import unittest
 from pathlib import Path
 
+from suffixhouse.answers.words import absent_words, shortest_single
 from suffixhouse.ends.order import check_order, commons_of, order_of
 from suffixhouse.ends.ranges import least_common, order_with
 from suffixhouse.houses.house import House
@@ -47,6 +48,18 @@ FUNCTIONS = {
         "order_with": ["house", "order", "number", "text"],
         "order_without": ["house", "order", "number"],
     },
+    "suffixhouse.machines.plain": {
+        "classes": ["house"],
+    },
+    "suffixhouse.answers.longest": {
+        "longest_repeated": ["house", "least"],
+        "longest_shared": ["house", "least"],
+    },
+    "suffixhouse.answers.words": {
+        "absent_words": ["house", "alphabet"],
+        "shortest_single": ["house", "number", "index"],
+        "stretch_counts": ["house"],
+    },
     "suffixhouse.houses.house": {
         "House": [],
     },
@@ -88,6 +101,8 @@ class InterfaceTest(unittest.TestCase):
         self.assertIs(check_order(house=house, order=order, commons=commons), True)
         self.assertEqual(least_common(commons=commons, i=0, j=2), 0)
         self.assertEqual(order_with(house=house, order=order, number=2, text=""), [(1, 2), (2, 0), *order[1:]])
+        self.assertEqual(absent_words(house=house, alphabet="ab"), ["aa", "ba", "bb"])
+        self.assertEqual(shortest_single(house=house, number=1, index=1), (1, 2))
 
     def test_readme_tells_the_truth(self):
         result = doctest.testfile(str(README), module_relative=False)

@@ -1,0 +1,1 @@
+"""Answers about the stretches of a house."""
