@@ -8,6 +8,9 @@ from suffixhouse.answers.words import absent_words, shortest_single
 from suffixhouse.ends.order import check_order, commons_of, order_of
 from suffixhouse.ends.ranges import least_common, order_with
 from suffixhouse.houses.house import House
+from suffixhouse.misprints.distance import check_distance
+from suffixhouse.misprints.near import near_places
+from suffixhouse.papers.answers import check_single
 
 README = Path(__file__).resolve().parent.parent / "README.md"
 FUNCTIONS = {
@@ -60,6 +63,30 @@ FUNCTIONS = {
         "shortest_single": ["house", "number", "index"],
         "stretch_counts": ["house"],
     },
+    "suffixhouse.papers.machines": {
+        "machine_paper": ["house"],
+        "check_machine": ["house", "edges", "paper"],
+        "telling_row": ["house", "paper", "i", "j"],
+    },
+    "suffixhouse.papers.answers": {
+        "stretch_table": ["house", "size"],
+        "check_repeated": ["house", "least", "found", "table"],
+        "check_shared": ["house", "least", "found", "table"],
+        "single_places": ["house", "number", "index"],
+        "check_single": ["house", "number", "index", "found", "others"],
+    },
+    "suffixhouse.misprints.distance": {
+        "distance": ["one", "two"],
+        "distance_table": ["one", "two"],
+        "alignment": ["one", "two"],
+        "aligned": ["one", "steps"],
+        "is_low": ["one", "two", "table"],
+        "check_distance": ["one", "two", "number", "steps", "table"],
+    },
+    "suffixhouse.misprints.near": {
+        "near_places": ["house", "word", "most"],
+        "nearest": ["house", "word"],
+    },
     "suffixhouse.houses.house": {
         "House": [],
     },
@@ -103,6 +130,9 @@ class InterfaceTest(unittest.TestCase):
         self.assertEqual(order_with(house=house, order=order, number=2, text=""), [(1, 2), (2, 0), *order[1:]])
         self.assertEqual(absent_words(house=house, alphabet="ab"), ["aa", "ba", "bb"])
         self.assertEqual(shortest_single(house=house, number=1, index=1), (1, 2))
+        self.assertIs(check_single(house=house, number=1, index=1, found=(1, 2), others={}), True)
+        self.assertIs(check_distance(one="a", two="", number=1, steps=[("out", "a")], table=[[1], [0]]), True)
+        self.assertEqual(near_places(house=house, word="ab", most=0), [(1, 0, 2, 0)])
 
     def test_readme_tells_the_truth(self):
         result = doctest.testfile(str(README), module_relative=False)

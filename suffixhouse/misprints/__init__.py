@@ -1,0 +1,1 @@
+"""Distances of words, and where words stand with misprints."""

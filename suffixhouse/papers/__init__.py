@@ -1,0 +1,1 @@
+"""Papers that certify machines and answers, and their checks."""
