@@ -1,5 +1,6 @@
-"""Houses to test with, and a plain reckoning of their machines (points 203 to 206)."""
+"""Houses to test with, and plain reckonings of what the program has to tell of them."""
 
+from functools import lru_cache
 from itertools import product
 from random import Random
 
@@ -248,3 +249,15 @@ def plain_others(house, number, index):
         (start, stop): min(place for place in places[text[start:stop]] if place != (number, start))
         for start, stop in plain_asked(text, index, plain_single(house, number, index))
     }
+
+
+@lru_cache(maxsize=None)
+def plain_distance(one, two):
+    """Return the distance of two words, from their last letters on."""
+    row = list(range(len(two) + 1))
+    for i, letter in enumerate(one):
+        before = row
+        row = [i + 1]
+        for j, other in enumerate(two):
+            row.append(min(before[j + 1] + 1, row[j] + 1, before[j] + (letter != other)))
+    return row[-1]

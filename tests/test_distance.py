@@ -9,7 +9,7 @@ from suffixhouse.misprints.distance import (
     aligned, alignment, check_distance, distance, distance_table, is_low,
 )
 from raising import RaisingTest
-from reckoning import words_of
+from reckoning import plain_distance, words_of
 
 GREAT = 10 ** 6000
 RANKS = ("keep", "change", "out", "put")
@@ -95,18 +95,6 @@ def told_alignment(one, two):
                 found.append([("put", two[j]), *best[i, j + 1]])
             best[i, j] = min(found, key=place_of)
     return best[0, 0]
-
-
-@lru_cache(maxsize=None)
-def plain_distance(one, two):
-    """Return the distance of two words, from their last letters on."""
-    row = list(range(len(two) + 1))
-    for i, letter in enumerate(one):
-        before = row
-        row = [i + 1]
-        for j, other in enumerate(two):
-            row.append(min(before[j + 1] + 1, row[j] + 1, before[j] + (letter != other)))
-    return row[-1]
 
 
 def plain_table(one, two):

@@ -4,8 +4,7 @@ from copy import deepcopy
 from suffixhouse.errors import OutOfRange
 from suffixhouse.misprints.near import near_places, nearest
 from raising import RaisingTest
-from reckoning import few_houses, large_houses, plain_places, words_of
-from test_distance import plain_distance
+from reckoning import few_houses, large_houses, plain_distance, plain_places, words_of
 
 HOUSE = [(2, "aba"), (5, "b")]
 GREAT = 10 ** 6000
